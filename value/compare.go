@@ -9,17 +9,41 @@ import (
 	"semtype/ident"
 )
 
-// Compare orders all values, valid or not.
+// Compare orders all values, valid or not. It goes on with the last of the Kids in a loop, so that a list may be longer than recursion can be deep.
 func Compare(a, b api.Value) int {
+	behind := 0
+	for {
+		if c := compareToLastKid(a, b); c != 0 {
+			return c
+		}
+		// What stands behind the Kids counts only if they are equal, so a difference further inside replaces one further outside.
+		if c := compareBehindKids(a, b); c != 0 {
+			behind = c
+		}
+		last := len(a.Kids) - 1
+		if last < 0 {
+			return behind
+		}
+		a, b = a.Kids[last], b.Kids[last]
+	}
+}
+
+// compareToLastKid compares what comes before the last of the Kids.
+func compareToLastKid(a, b api.Value) int {
 	if c := compareOwn(a, b); c != 0 {
 		return c
 	}
 	if c := compareLists(a.Keys, b.Keys, ident.CompareKeys); c != 0 {
 		return c
 	}
-	if c := compareLists(a.Kids, b.Kids, Compare); c != 0 {
+	if c := cmp.Compare(len(a.Kids), len(b.Kids)); c != 0 || len(a.Kids) == 0 {
 		return c
 	}
+	last := len(a.Kids) - 1
+	return slices.CompareFunc(a.Kids[:last], b.Kids[:last], Compare)
+}
+
+func compareBehindKids(a, b api.Value) int {
 	if c := compareLists(a.Entries, b.Entries, compareEntries); c != 0 {
 		return c
 	}

@@ -2,6 +2,7 @@ package value_test
 
 import (
 	"cmp"
+	"runtime/debug"
 	"slices"
 	"testing"
 
@@ -127,5 +128,58 @@ func TestCompareSorts(t *testing.T) {
 	slices.SortFunc(mixed, value.Compare)
 	for i := range mixed {
 		check(t, "sorted", mixed[i], want[i])
+	}
+}
+
+// P4.2: the Kids come before what stands behind them, at each depth, and the last of the Kids is no exception.
+func TestLastKidComesFirst(t *testing.T) {
+	one, two := integer(1), integer(2)
+	cases := [][2]api.Value{
+		{labelled(pair(one, empty()), "B"), labelled(pair(one, labelled(empty(), "A")), "A")},
+		{labelled(pair(one, labelled(pair(one, empty()), "C")), "B"), labelled(pair(one, labelled(pair(one, labelled(empty(), "A")), "B")), "A")},
+		{labelled(pair(one, labelled(pair(one, empty()), "A")), "C"), labelled(pair(one, labelled(pair(one, empty()), "B")), "A")},
+		{labelled(node(api.VTuple, labelled(one, "B"), one), "B"), labelled(node(api.VTuple, labelled(one, "C"), one), "A")},
+		{labelled(node(api.VTuple, labelled(one, "B"), one), "B"), labelled(node(api.VTuple, labelled(one, "B"), two), "A")},
+		{labelled(node(api.VTuple, labelled(one, "B"), labelled(one, "A")), "B"), labelled(node(api.VTuple, labelled(one, "B"), labelled(one, "B")), "A")},
+		{labelled(node(api.VTuple, labelled(two, "B")), "A"), labelled(node(api.VTuple, labelled(two, "B")), "B")},
+		{labelled(node(api.VTuple, fun(0, fails()), one), "B"), labelled(node(api.VTuple, fun(0, maps(one)), one), "A")},
+		{labelled(node(api.VTuple, fun(0, fails())), "B"), labelled(node(api.VTuple, fun(0, maps(one))), "A")},
+		{api.Value{Kind: api.VMap, Kids: []api.Value{one}, Entries: []api.Entry{maps(two)}}, api.Value{Kind: api.VMap, Kids: []api.Value{two}, Entries: []api.Entry{maps(one)}}},
+		{api.Value{Kind: api.VMap, Kids: []api.Value{one}, Entries: []api.Entry{maps(one)}, Labels: []string{"B"}}, api.Value{Kind: api.VMap, Kids: []api.Value{one}, Entries: []api.Entry{maps(two)}, Labels: []string{"A"}}},
+	}
+	for _, c := range cases {
+		for _, wrap := range wraps() {
+			a, b := wrap(c[0]), wrap(c[1])
+			if value.Compare(a, b) != -1 || value.Compare(b, a) != 1 || compareTokens(tokens(a), tokens(b)) != -1 {
+				t.Errorf("Compare(%s, %s) = %d", show(a), show(b), value.Compare(a, b))
+			}
+		}
+	}
+}
+
+// P4.2, P4.3: a list has as many levels as elements, and more of them than a stack of this size has room for.
+func TestLongLists(t *testing.T) {
+	defer debug.SetMaxStack(debug.SetMaxStack(1 << 23))
+	long := func(first int64, last api.Value) api.Value {
+		l := last
+		for range 1 << 17 {
+			l = pair(integer(1), l)
+		}
+		return pair(integer(first), l)
+	}
+	a, b := long(1, empty()), long(1, labelled(empty(), "A"))
+	if value.Compare(a, b) != -1 || value.Compare(b, a) != 1 || value.Compare(b, b) != 0 || !value.Equal(a, long(1, empty())) {
+		t.Error("Compare: long lists")
+	}
+	if value.Compare(labelled(a, "B"), labelled(b, "A")) != -1 || value.Compare(long(2, empty()), b) != 1 {
+		t.Error("Compare: long lists that differ at the beginning")
+	}
+	for _, c := range []struct {
+		v    api.Value
+		want api.Code
+	}{{a, api.OK}, {b, api.OK}, {fun(1, fails(a), fails(b)), api.OK}, {fun(1, fails(b), fails(a)), api.ErrInvalid}, {long(1, integer(1)), api.ErrInvalid}, {long(1, api.Value{Kind: api.VNil, Int: 1}), api.ErrInvalid}} {
+		if code := value.Validate(c.v); code != c.want {
+			t.Errorf("Validate of a long list: %v, want %v", code, c.want)
+		}
 	}
 }

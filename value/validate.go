@@ -15,8 +15,19 @@ func Validate(v api.Value) api.Code {
 	return api.OK
 }
 
+// isValid goes on with the last of the Kids in a loop, so that a list may be longer than recursion can be deep.
 func isValid(v api.Value) bool {
-	return isValidNode(v) && all(v.Kids, isValid) && all(v.Entries, hasValidParts)
+	for isValidNode(v) && all(v.Entries, hasValidParts) {
+		last := len(v.Kids) - 1
+		if last < 0 {
+			return true
+		}
+		if !all(v.Kids[:last], isValid) {
+			return false
+		}
+		v = v.Kids[last]
+	}
+	return false
 }
 
 // hasValidParts leaves out the Result of an entry that fails, which is no node.
