@@ -6,6 +6,7 @@ import (
 
 	"semtype/api"
 	"semtype/member"
+	"semtype/samples"
 	"semtype/typeexpr"
 )
 
@@ -40,7 +41,7 @@ func explains(path []int, v api.Value, x api.Type) bool {
 		return false
 	}
 	excluded := slices.ContainsFunc(path, func(n int) bool { return x.Nodes[n].Kind == api.TNot })
-	return slices.ContainsFunc(subvalues(v), func(w api.Value) bool {
+	return slices.ContainsFunc(samples.Subvalues(v), func(w api.Value) bool {
 		return excluded || !member.MemberOf(w, x, path[len(path)-1])
 	})
 }

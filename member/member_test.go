@@ -8,6 +8,7 @@ import (
 
 	"semtype/api"
 	"semtype/member"
+	"semtype/samples"
 	"semtype/typeexpr"
 	"semtype/value"
 )
@@ -36,7 +37,7 @@ func expect(t *testing.T, name string, x api.Type, in, out []api.Value) {
 
 // P8.1: a node without parts has the values of its kind only, with any labels.
 func TestKinds(t *testing.T) {
-	values := someValues(t)
+	values := samples.Values()
 	nodes := []struct {
 		node api.TypeNode
 		has  func(v api.Value) bool

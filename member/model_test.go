@@ -7,6 +7,7 @@ import (
 
 	"semtype/api"
 	"semtype/member"
+	"semtype/samples"
 	"semtype/typeexpr"
 )
 
@@ -73,53 +74,12 @@ func chapter8Function(v api.Value, node api.TypeNode, in func(api.Value, int) bo
 	return true
 }
 
-// randomType returns a well-formed type: connectives lead to later nodes only, of which the last one has another kind.
-func randomType(r *rand.Rand, size int) api.Type {
-	x := api.Type{Root: r.Intn(size)}
-	for i := range size {
-		kinds := []int{api.TNone, api.TAny, api.TInt, api.TString, api.TStrings, api.TAtom, api.TAtoms, api.TPid, api.TNil, api.TTuples, api.TFuns, api.TVar, api.TTuple, api.TCons, api.TMap, api.TFun, api.TTuple, api.TCons, api.TMap, api.TFun, api.TUnion, api.TInter, api.TNot, api.TUnion, api.TInter, api.TNot}
-		if i == size-1 {
-			kinds = kinds[:20]
-		}
-		x.Nodes = append(x.Nodes, randomNode(r, kinds[r.Intn(len(kinds))], i, size))
-	}
-	return x
-}
-
-func randomNode(r *rand.Rand, k, i, size int) api.TypeNode {
-	count := map[int]int{api.TTuple: r.Intn(3), api.TCons: 2, api.TFun: 1 + r.Intn(3), api.TUnion: 1 + r.Intn(4), api.TInter: 1 + r.Intn(3), api.TNot: 1}[k]
-	first := 0
-	if k == api.TUnion || k == api.TInter || k == api.TNot {
-		first = i + 1
-	}
-	node := kind(k)
-	for range count {
-		node.Kids = append(node.Kids, first+r.Intn(size-first))
-	}
-	switch k {
-	case api.TInt:
-		node.Lo, node.Hi = []int64{least, 0, 1}[r.Intn(3)], []int64{1, 2, greatest}[r.Intn(3)]
-	case api.TString, api.TAtom:
-		node.Text = []string{"a", "b"}[r.Intn(2)]
-	case api.TVar:
-		node.Text = []string{"A", "B"}[r.Intn(2)]
-	case api.TMap:
-		node.Rest = [2]int{r.Intn(size), r.Intn(size)}
-		for _, name := range []string{"a", "b", "\"", "\"a"} {
-			if r.Intn(2) == 0 {
-				node.Fields = append(node.Fields, api.Field{Key: key(name), Node: r.Intn(size), Optional: r.Intn(3) > 0})
-			}
-		}
-	}
-	return node
-}
-
 // P8.1: every node of random types has the members that the chapter says, and every value is a member of it or of its complement.
 func TestRandomTypes(t *testing.T) {
-	values, r := someValues(t), rand.New(rand.NewSource(8))
+	values, r := samples.Values(), rand.New(rand.NewSource(8))
 	found := map[bool]int{}
 	for range 150 {
-		x := randomType(r, 1+r.Intn(8))
+		x := samples.RandomType(r, 1+r.Intn(8))
 		if code := typeexpr.WellFormed(x); code != api.OK {
 			t.Fatal(x, code)
 		}
