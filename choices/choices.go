@@ -1,4 +1,4 @@
-// Package choices finds the least sets of ways that meet all rows of a list. The layers use it where a value has to be outside of each of several nodes, and may be so in several ways.
+// Package choices finds the least sets of ways that meet all rows of a list. The layers use it where each of several nodes leaves a choice: for example, in which way a value is outside of it.
 package choices
 
 import (

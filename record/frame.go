@@ -6,6 +6,7 @@ import (
 	"semtype/api"
 	"semtype/choices"
 	"semtype/ident"
+	"semtype/known"
 	"semtype/lines"
 )
 
@@ -118,6 +119,14 @@ func (f *frame) violations(m *api.TypeNode) (row []choices.Way, always bool) {
 		}
 	}
 	return row, false
+}
+
+// hasAll reports whether node n is known to have all values of the goal: those of one of its nodes of Pos.
+func (f *frame) hasAll(n int, g api.Goal) bool {
+	if f.nodes[n].Kind == api.TAny {
+		return true
+	}
+	return slices.ContainsFunc(g.Pos, func(m int) bool { return known.Within(f.nodes, m, n) })
 }
 
 // shape returns the shape of the maps of the frame for which these ways hold.
