@@ -319,3 +319,51 @@ func TestTails(t *testing.T) {
 		}
 	}
 }
+
+// What nodes show to be needless is left out: rows that are outside anyway, and parts that are within others.
+func TestNeedlessBoxes(t *testing.T) {
+	x := graph(
+		/* 0 */ kind(api.TAny), kind(api.TNone), from(0, 9), from(0, 5), text(api.TAtom, "a"), text(api.TAtom, "b"), kind(api.TAtoms), text(api.TVar, "A"),
+		/* 8 */ kind(api.TTuple, 4, 2), kind(api.TTuple, 4, 3), kind(api.TTuple, 5, 2), kind(api.TTuple, 6, 2), kind(api.TTuple, 6, 3), kind(api.TTuple, 0, 2), kind(api.TTuple, 0, 0), kind(api.TTuple, 1, 7), kind(api.TTuple, 7, 7),
+		/* 17 */ kind(api.TCons, 2, 7), kind(api.TCons, 3, 7), kind(api.TCons, 4, 7), kind(api.TCons, 0, 0), kind(api.TCons, 0, 7),
+	)
+	mustBeWellFormed(t, x)
+	for i, c := range []struct {
+		kind     int
+		pos, neg []int
+		boxes    int
+	}{
+		{api.VTuple, only(8), only(9), 1},
+		{api.VTuple, only(8), only(10), 1},
+		{api.VTuple, only(8), only(11), 0},
+		{api.VTuple, only(8), only(12), 1},
+		{api.VTuple, only(8), only(16), 2},
+		{api.VTuple, only(9), only(8), 0},
+		{api.VTuple, only(9), only(8, 16), 0},
+		{api.VTuple, only(16), only(8), 2},
+		{api.VTuple, only(16, 9), only(8), 0},
+		{api.VTuple, only(16, 9), only(10), 1},
+		{api.VTuple, nil, only(8), 2},
+		{api.VTuple, nil, only(8, 16), 4},
+		{api.VTuple, nil, only(8, 13), 1},
+		{api.VTuple, nil, only(13), 1},
+		{api.VTuple, nil, only(14), 0},
+		{api.VTuple, nil, only(15), 1},
+		{api.VTuple, nil, only(15, 8), 2},
+		{api.VCons, only(17), only(18), 1},
+		{api.VCons, only(18), only(17), 0},
+		{api.VCons, only(17), only(19), 1},
+		{api.VCons, nil, only(19), 2},
+		{api.VCons, nil, only(20), 0},
+		{api.VCons, nil, only(21), 1},
+	} {
+		l := api.Line{Kind: c.kind, Pos: c.pos, Neg: c.neg}
+		if c.kind == api.VTuple {
+			l.Arity = 2
+		}
+		if boxes, code := product.Components(x, l); len(boxes) != c.boxes || code != api.OK {
+			t.Errorf("%d: %+v %v", i, boxes, code)
+		}
+		checkComponents(t, x, l, samples.Values())
+	}
+}

@@ -2,6 +2,7 @@ package product_test
 
 import (
 	"slices"
+	"strconv"
 	"testing"
 
 	"semtype/api"
@@ -122,6 +123,27 @@ func TestLargeTypes(t *testing.T) {
 	}
 	l.Pos, l.Neg = nil, l.Pos
 	if boxes, code := product.Components(x, l); code != api.OK || len(boxes) != 2 {
+		t.Error(len(boxes), code)
+	}
+}
+
+// R1: tuples with different tags have no box for each choice of a part.
+func TestTags(t *testing.T) {
+	const number = 1 << 10
+	x := graph(kind(api.TAny), text(api.TAtom, "tag"), kind(api.TTuple, 1, 2, 0))
+	l := api.Line{Kind: api.VTuple, Arity: 3, Pos: only(2)}
+	for i := range number {
+		n := len(x.Nodes)
+		x.Nodes = append(x.Nodes, text(api.TAtom, "tag"+strconv.Itoa(i)), from(0, int64(i)), kind(api.TTuple, n, n+1, n+1))
+		l.Neg = append(l.Neg, n+2)
+	}
+	mustBeWellFormed(t, x)
+	boxes, code := product.Components(x, l)
+	if code != api.OK || len(boxes) != 1 || len(boxes[0].Parts[0].Neg) != 0 {
+		t.Error(len(boxes), code)
+	}
+	l.Neg = append(l.Neg, 2)
+	if boxes, code := product.Components(x, l); code != api.OK || len(boxes) != 0 {
 		t.Error(len(boxes), code)
 	}
 }

@@ -103,8 +103,8 @@ func (f *frame) violations(m *api.TypeNode) (row []choices.Way, always bool) {
 	for i := range f.size() {
 		p := f.place(i)
 		n, required := p.in(m)
-		isNone := f.nodes[n].Kind == api.TNone
-		if required && p.state == api.KeyAbsent || isNone && p.state == api.KeyPresent {
+		hasNone := f.hasNone(n, p.values)
+		if required && p.state == api.KeyAbsent || hasNone && p.state == api.KeyPresent {
 			return nil, true
 		}
 		if required && p.state == api.KeyEither {
@@ -112,7 +112,7 @@ func (f *frame) violations(m *api.TypeNode) (row []choices.Way, always bool) {
 		}
 		switch {
 		case p.state == api.KeyAbsent || f.hasAll(n, p.values):
-		case isNone:
+		case hasNone:
 			row = append(row, choices.Way{Place: i, Index: anything})
 		default:
 			row = append(row, choices.Way{Place: i, Index: n})
@@ -127,6 +127,11 @@ func (f *frame) hasAll(n int, g api.Goal) bool {
 		return true
 	}
 	return slices.ContainsFunc(g.Pos, func(m int) bool { return known.Within(f.nodes, m, n) })
+}
+
+// hasNone reports whether node n is known to have no value of the goal.
+func (f *frame) hasNone(n int, g api.Goal) bool {
+	return known.Apart(f.nodes, n, n) || slices.ContainsFunc(g.Pos, func(m int) bool { return known.Apart(f.nodes, m, n) })
 }
 
 // shape returns the shape of the maps of the frame for which these ways hold.

@@ -147,7 +147,7 @@ func TestSamplesAreInShape(t *testing.T) {
 			}
 		}
 	}
-	if made < 1000 || withSome < 100 {
+	if made < 1000 || withSome < 70 {
 		t.Error(made, withSome)
 	}
 }

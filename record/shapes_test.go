@@ -119,11 +119,14 @@ func TestShapes(t *testing.T) {
 			shape(all, all, at{"a", either, all}, at{"b", present, part(only(2), 4)}),
 			some(shape(all, all, at{"a", either, all}, at{"b", present, integer}), 1, all),
 		}},
-		{only(11), only(22), []api.Shape{
-			shape(all, all, at{"a", present, part(only(2), 3)}, at{"\"", either, all}),
-			shape(all, all, at{"a", present, integer}, at{"\"", present, part(only(0), 4)}),
-			some(shape(all, all, at{"a", present, integer}, at{"\"", either, all}), 0, part(only(0), 3)),
+		{only(15), only(22), []api.Shape{
+			shape(all, all, at{"a", present, part(only(0), 3)}, at{"\"", either, all}),
+			shape(all, all, at{"a", present, all}, at{"\"", present, part(only(0), 4)}),
+			some(shape(all, all, at{"a", present, all}, at{"\"", either, all}), 0, part(only(0), 3)),
 		}},
+		{only(11), only(22), []api.Shape{shape(all, all, at{"a", present, integer}, at{"\"", either, all})}},
+		{only(11), only(14), []api.Shape{shape(all, all, at{"a", present, integer})}},
+		{only(12), only(14), []api.Shape{shape(all, all, at{"a", present, integer}), some(shape(all, all, at{"a", either, integer}), 0, all), some(shape(all, all, at{"a", either, integer}), 1, all)}},
 	} {
 		shapes, code := rec.Shapes(x, api.Line{Kind: api.VMap, Pos: c.pos, Neg: c.neg})
 		if sorted(shapes) != sorted(c.wanted) || code != api.OK {
@@ -302,6 +305,32 @@ func TestKnownNodes(t *testing.T) {
 			}
 			checkShapes(t, x, api.Line{Kind: api.VMap, Pos: only(pos), Neg: only(pos + 1)}, everyMap([]string{"a", "b"}, samples.Simple()...))
 		}
+	}
+}
+
+// P11.2: what nodes without a common value leave no choice about: a key that is there violates the node, whatever its value is.
+func TestNodesApart(t *testing.T) {
+	x := graph(kind(api.TAny), from(0, 9), from(10, 19), record(0, 0, field("a", 1)), record(0, 0, field("a", 2)), record(0, 0, optional("a", 1)), record(0, 0, optional("a", 2)), record(1, 0), record(2, 0))
+	mustBeWellFormed(t, x)
+	all, first := part(only(0)), part(only(1))
+	for i, c := range []struct {
+		pos, neg int
+		wanted   []api.Shape
+	}{
+		{3, 4, []api.Shape{shape(all, all, at{"a", present, first})}},
+		{3, 6, []api.Shape{shape(all, all, at{"a", present, first})}},
+		{5, 4, []api.Shape{shape(all, all, at{"a", absent, api.Goal{}}), shape(all, all, at{"a", present, first})}},
+		{5, 6, []api.Shape{shape(all, all, at{"a", present, first})}},
+		{7, 8, []api.Shape{some(shape(first, all), 0, first)}},
+		{7, 4, []api.Shape{shape(first, all, at{"a", absent, api.Goal{}}), shape(first, all, at{"a", present, first})}},
+		{3, 8, []api.Shape{shape(all, all, at{"a", present, first})}},
+	} {
+		l := api.Line{Kind: api.VMap, Pos: only(c.pos), Neg: only(c.neg)}
+		shapes, code := rec.Shapes(x, l)
+		if sorted(shapes) != sorted(c.wanted) || code != api.OK {
+			t.Errorf("%d: %+v", i, shapes)
+		}
+		checkShapes(t, x, l, everyMap([]string{"a", "b", "\""}, value.Int(1), value.Int(11), value.Int(20)))
 	}
 }
 

@@ -58,21 +58,21 @@ func TestManyNodes(t *testing.T) {
 
 // R1: unions of maps with tags, each of which has nodes of its own, do not try what cannot be.
 func TestTags(t *testing.T) {
-	const number = 12
+	const number = 40
 	x := graph(kind(api.TNone))
 	var maps []int
 	for i := range number {
 		n := len(x.Nodes)
 		tag := text(api.TAtom, "t"+strconv.Itoa(i))
 		fields := []api.Field{field("a", n), field("b", n+1), field("c", n+2), field("tag", n+3)}
-		x.Nodes = append(x.Nodes, from(least, greatest), kind(api.TStrings), kind(api.TAtoms), tag, record(0, 0, fields...))
+		x.Nodes = append(x.Nodes, from(least, int64(i)), from(int64(-i), greatest), kind(api.TAtoms), tag, record(0, 0, fields...))
 		maps = append(maps, n+4)
 	}
 	mustBeWellFormed(t, x)
 	for i := range maps {
 		others := slices.Delete(slices.Clone(maps), i, i+1)
 		shapes, _ := rec.Shapes(x, api.Line{Kind: api.VMap, Pos: maps[i : i+1], Neg: others})
-		if len(shapes) != 1 || len(shapes[0].Parts[3].Neg) != number-1 {
+		if len(shapes) != 1 || len(shapes[0].Parts[3].Neg) != 0 {
 			t.Error(i, len(shapes))
 		}
 		if shapes, _ := rec.Shapes(x, api.Line{Kind: api.VMap, Pos: maps[i : i+1], Neg: maps}); len(shapes) > 0 {
