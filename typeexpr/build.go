@@ -101,7 +101,9 @@ func Cons(head, tail api.Type) api.Type { return compose(api.TCons, head, tail) 
 // ListOf returns the type of the lists of such elements.
 func ListOf(element api.Type) api.Type {
 	b := builder{[]api.TypeNode{{Kind: api.TUnion, Kids: []int{1, 2}}, {Kind: api.TNil}, {Kind: api.TCons}}}
-	b.nodes[2].Kids = []int{b.graft(element, nil), 0}
+	// The call has a statement of its own: it assigns b.nodes, and Go leaves open whether a statement reads a variable before or after a call in it.
+	head := b.graft(element, nil)
+	b.nodes[2].Kids = []int{head, 0}
 	return b.typeAt(0)
 }
 

@@ -50,6 +50,25 @@ func TestExamples(t *testing.T) {
 	wantCode(t, graph(kids(api.TNot, 0)), api.ErrLoop)
 }
 
+// P7.4: the lists of members of types with few and many nodes.
+func TestListOf(t *testing.T) {
+	three, ten := value.Int(3), value.Int(10)
+	for number := range int64(70) {
+		element := digit
+		for n := range number {
+			element = typeexpr.Union(element, typeexpr.Ints(ranges(20+n, 20+n)))
+		}
+		x := typeexpr.ListOf(element)
+		last := value.Int(19 + number)
+		if typeexpr.WellFormed(x) != api.OK || !member(value.List(three), x) || !member(value.List(three, value.Int(0), three), x) || member(value.List(last), x) != (number > 0) {
+			t.Error(number, "a list is no member")
+		}
+		if member(value.List(ten), x) || member(value.List(three, ten), x) || member(value.Cons(three, value.Tuple()), x) || member(three, x) {
+			t.Error(number, "another value is a member")
+		}
+	}
+}
+
 // P7.4: None and Any, and what stands for no types, one type and many types.
 func TestNoneAndAny(t *testing.T) {
 	if rootOf(typeexpr.None()).Kind != api.TNone || rootOf(typeexpr.Any()).Kind != api.TAny {
