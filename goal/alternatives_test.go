@@ -29,16 +29,16 @@ func TestExamplePair(t *testing.T) {
 // Example 2, and P13.2 for goals without members: no value of a pool is a member of all subgoals of an alternative.
 func TestGoalsWithoutMembers(t *testing.T) {
 	x := zoo(t)
-	m := newMemory(x, samples.Values())
+	m := samples.NewMembers(x, samples.Values())
 	for _, g := range []api.Goal{
 		in(none), both(nil, all), in(digit, atoms), both(only(pair), pairs), both(only(five), digit), both(only(variableA), labelled), in(loop), in(nested), in(tuples, notTuples), in(emptyMap, closed), both(only(digitToDigit), digitToDigit), both(only(four), functions),
 		{Pos: only(integer), Lists: true}, {Neg: only(lists), Lists: true}, {Pos: only(pair, digits), Lists: true}, both(only(digits), nothing, list), both(only(nothing), nothing), both(only(digit, variableB), variableB), in(toDigit, digitToDigit),
 	} {
-		if l := m.membersOf(g); len(l) > 0 {
+		if l := m.Of(g); len(l) > 0 {
 			t.Fatal(g, l)
 		}
 		for _, alt := range goal.Alternatives(x, g) {
-			isEmpty := func(h api.Goal) bool { return len(m.membersOf(h)) == 0 }
+			isEmpty := func(h api.Goal) bool { return len(m.Of(h)) == 0 }
 			if !slices.ContainsFunc(alt.Subgoals, isEmpty) {
 				t.Errorf("%v: %+v", g, alt)
 			}
@@ -106,22 +106,22 @@ func sorted(l []api.Alternative) string {
 }
 
 // check checks the alternatives of a goal: that all subgoals are normal, that members of them make members of the goal, and that members of the goal are split. It returns how many alternatives have a value for each subgoal, and the members.
-func check(t *testing.T, r *rand.Rand, m *memory, g api.Goal) (made int, members []api.Value) {
+func check(t *testing.T, r *rand.Rand, m *samples.Members, g api.Goal) (made int, members []api.Value) {
 	t.Helper()
-	l := goal.Alternatives(m.x, g)
+	l := goal.Alternatives(m.Type, g)
 	for _, alt := range l {
-		if slices.ContainsFunc(alt.Subgoals, func(h api.Goal) bool { return !isNormal(m.x, h) }) {
+		if slices.ContainsFunc(alt.Subgoals, func(h api.Goal) bool { return !isNormal(m.Type, h) }) {
 			t.Fatalf("%+v: %+v", g, alt)
 		}
 		if checkMake(t, r, m, g, alt) {
 			made++
 		}
 	}
-	members = m.membersOf(g)
+	members = m.Of(g)
 	for range min(len(members), 12) {
 		v := members[r.Intn(len(members))]
-		i, parts, ok := goal.Split(m.x, l, v)
-		if !ok || i < 0 || i >= len(l) || !isSplit(v, m.x, l[i], parts) {
+		i, parts, ok := goal.Split(m.Type, l, v)
+		if !ok || i < 0 || i >= len(l) || !isSplit(v, m.Type, l[i], parts) {
 			t.Fatalf("%+v of %+v: %d %+v %t, of %+v", v, g, i, parts, ok, l)
 		}
 	}
@@ -129,19 +129,19 @@ func check(t *testing.T, r *rand.Rand, m *memory, g api.Goal) (made int, members
 }
 
 // checkMake reports whether there are values for each subgoal.
-func checkMake(t *testing.T, r *rand.Rand, m *memory, g api.Goal, alt api.Alternative) bool {
+func checkMake(t *testing.T, r *rand.Rand, m *samples.Members, g api.Goal, alt api.Alternative) bool {
 	t.Helper()
 	parts := make([]api.Value, len(alt.Subgoals))
 	for range 3 {
 		for i, h := range alt.Subgoals {
-			own := m.membersOf(h)
+			own := m.Of(h)
 			if len(own) == 0 {
 				return false
 			}
 			parts[i] = own[r.Intn(len(own))]
 		}
 		v, code := goal.Make(alt, parts...)
-		if code != api.OK || !lines.InGoal(v, m.x, g) || !isDescribed(v, alt, parts) {
+		if code != api.OK || !lines.InGoal(v, m.Type, g) || !isDescribed(v, alt, parts) {
 			t.Fatalf("%+v: %+v of %+v: %+v %v", g, alt, parts, v, code)
 		}
 	}
@@ -152,7 +152,7 @@ func checkMake(t *testing.T, r *rand.Rand, m *memory, g api.Goal, alt api.Altern
 func TestSmallGoals(t *testing.T) {
 	x := zoo(t)
 	r := rand.New(rand.NewSource(2))
-	m := newMemory(x, append(moreValues(), samples.Values()...))
+	m := samples.NewMembers(x, append(moreValues(), samples.Values()...))
 	made, found := map[int]int{}, map[int]int{}
 	for i := -1; i < 2*allNodes; i++ {
 		for k := i; k < 2*allNodes; k++ {
@@ -195,7 +195,7 @@ func moreValues() []api.Value {
 func TestLargerGoals(t *testing.T) {
 	x := zoo(t)
 	r := rand.New(rand.NewSource(3))
-	m := newMemory(x, append(moreValues(), samples.Values()...))
+	m := samples.NewMembers(x, append(moreValues(), samples.Values()...))
 	groups := [][]int{
 		only(all, either, labelled, notDigit, common, mixed, notTuples, variableA, variableB),
 		only(emptyTuple, single, pair, pairs, triple, quadruple, tuples, either, mixed, variableA), only(pair, pairs, pair, mixed), only(digits, cons, list, lists, nothing, variableA),
@@ -234,7 +234,7 @@ func TestSimilarAlternatives(t *testing.T) {
 		/* 8 */ kind(api.TInter, 5, 6, 12), kind(api.TInter, 7, 13),
 		/* 10 */ kind(api.TFun, 2, 4), kind(api.TFun, 1, 4), kind(api.TFun, 3, 1), kind(api.TFun, 1, 2), kind(api.TFun, 1, 3))
 	mustBeWellFormed(t, x)
-	m := newMemory(x, []api.Value{fun(1, fails(a), fails(ten)), fun(1, maps(a, ten)), fun(1, fails(a)), fun(1, fails(ten)), fun(1, maps(ten, ten)), a, ten, one})
+	m := samples.NewMembers(x, []api.Value{fun(1, fails(a), fails(ten)), fun(1, maps(a, ten)), fun(1, fails(a)), fun(1, fails(ten)), fun(1, maps(ten, ten)), a, ten, one})
 	for _, g := range []api.Goal{in(0), in(8), in(9), both(nil, 5, 6)} {
 		if made, members := check(t, rand.New(rand.NewSource(1)), m, g); made == 0 || len(members) == 0 {
 			t.Error(g, made, members)
@@ -257,7 +257,7 @@ func TestRandomGoals(t *testing.T) {
 			nodes[i] = i
 		}
 		r.Shuffle(len(all), func(i, k int) { all[i], all[k] = all[k], all[i] })
-		m := newMemory(x, all[:150])
+		m := samples.NewMembers(x, all[:150])
 		for range 4 {
 			g := api.Goal{Pos: someOf(r, nodes, 3), Neg: someOf(r, nodes, 3), Lists: r.Intn(9) == 0}
 			number, members := check(t, r, m, g)

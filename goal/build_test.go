@@ -9,7 +9,6 @@ import (
 	"semtype/api"
 	"semtype/goal"
 	"semtype/lines"
-	"semtype/member"
 	"semtype/samples"
 	"semtype/typeexpr"
 	"semtype/value"
@@ -148,44 +147,6 @@ func zoo(t *testing.T) api.Type {
 	}}
 	mustBeWellFormed(t, x)
 	return x
-}
-
-// memory keeps which of some values are members of which nodes of a type.
-type memory struct {
-	x      api.Type
-	values []api.Value
-	nodes  [][]bool // for each value
-	known  map[string][]api.Value
-}
-
-func newMemory(x api.Type, values []api.Value) *memory {
-	m := &memory{x, values, nil, map[string][]api.Value{}}
-	for _, v := range values {
-		in := make([]bool, len(x.Nodes))
-		for n := range in {
-			in[n] = member.MemberOf(v, x, n)
-		}
-		m.nodes = append(m.nodes, in)
-	}
-	return m
-}
-
-// membersOf returns the values that are in the goal, by the words of P9.1.
-func (m *memory) membersOf(g api.Goal) (l []api.Value) {
-	k := show(g)
-	if l, known := m.known[k]; known {
-		return l
-	}
-	for i, v := range m.values {
-		isMember := func(n int) bool { return m.nodes[i][n] }
-		isNone := func(n int) bool { return !isMember(n) }
-		isList := v.Kind == api.VNil || v.Kind == api.VCons
-		if !slices.ContainsFunc(g.Pos, isNone) && !slices.ContainsFunc(g.Neg, isMember) && (isList || !g.Lists) {
-			l = append(l, v)
-		}
-	}
-	m.known[k] = l
-	return l
 }
 
 // isNormal reports whether the goal is in normal form, over nodes of x.

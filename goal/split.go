@@ -4,6 +4,7 @@ import (
 	"slices"
 
 	"semtype/api"
+	"semtype/goalkey"
 	"semtype/lines"
 	"semtype/value"
 )
@@ -71,7 +72,7 @@ func newSplitter(t api.Type, v api.Value) *splitter {
 }
 
 func (s *splitter) questionOf(g api.Goal) *question {
-	k := keyOfGoal(g)
+	k := goalkey.Of(g)
 	q := s.questions[k]
 	if q == nil {
 		q = &question{g, make([]answer, len(s.parts))}

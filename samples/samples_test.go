@@ -2,6 +2,7 @@ package samples_test
 
 import (
 	"math/rand"
+	"slices"
 	"testing"
 
 	"semtype/api"
@@ -61,6 +62,29 @@ func TestRandomTypes(t *testing.T) {
 	for kind := api.TNone; kind <= api.TVar; kind++ {
 		if kinds[kind] < 10 {
 			t.Error(kind, kinds[kind])
+		}
+	}
+}
+
+func TestMembers(t *testing.T) {
+	x := samples.Graph(samples.Range(0, 9), samples.Node(api.TTuple, 0), samples.Node(api.TAny))
+	one, two, list := value.Int(1), value.Tuple(value.Int(2)), value.Nil()
+	m := samples.NewMembers(x, []api.Value{one, two, list})
+	for i, c := range []struct {
+		g      api.Goal
+		wanted []api.Value
+	}{
+		{api.Goal{}, []api.Value{one, two, list}},
+		{api.Goal{Pos: []int{2, 0}}, []api.Value{one}},
+		{api.Goal{Pos: []int{1}}, []api.Value{two}},
+		{api.Goal{Neg: []int{1}}, []api.Value{one, list}},
+		{api.Goal{Pos: []int{2}, Neg: []int{0}, Lists: true}, []api.Value{list}},
+		{api.Goal{Pos: []int{2}, Neg: []int{2}}, nil},
+	} {
+		for range 2 {
+			if l := m.Of(c.g); !slices.EqualFunc(l, c.wanted, value.Equal) {
+				t.Error(i, l)
+			}
 		}
 	}
 }
